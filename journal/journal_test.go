@@ -644,7 +644,7 @@ func TestNothingHandedInIsKept(t *testing.T) {
 		list := [][]byte{was[n:][:n], was[:n], was[2:][:n]}
 		opens(t, d, was[:n*19], list, "what was handed in is changed")
 		d.Crash(0, 0)
-		opens(t, d, was[:n*19], list[:2], "what was handed in is changed")
+		opens(t, d, was[:n*19], list, "what was handed in is changed, Crash")
 	}
 }
 
@@ -732,8 +732,8 @@ func (c call) on(j *Journal) api.Errno {
 
 // model is what is known of a journal by what its calls answered.
 type model struct {
-	sure  state   // behind the last call that was OK
-	maybe []state // with one of those since that answered an error
+	has   state   // behind the last call that was OK
+	maybe []state // what there may be in its place behind a Crash
 	cut   bool    // a Rebase was cut off
 }
 
@@ -741,10 +741,10 @@ type model struct {
 func (m *model) answered(c call, e api.Errno) {
 	switch {
 	case e == api.OK:
-		m.sure, m.maybe = c.done(m.sure), nil
+		m.has, m.maybe = c.done(m.has), nil
 		m.cut = m.cut && !c.rebase
 	case e != api.ErrArg && e != api.ErrFull:
-		m.maybe = append(m.maybe, c.done(m.sure))
+		m.maybe = append(m.maybe, c.done(m.has))
 		m.cut = m.cut || c.rebase
 	}
 }
@@ -754,17 +754,22 @@ func (m *model) refused(c call) api.Errno {
 	switch {
 	case c.rebase && len(c.b) > mostBase, !c.rebase && len(c.b) > api.MaxRecord:
 		return api.ErrArg
-	case !c.rebase && (m.cut || len(m.sure.records) == api.LogLen):
+	case !c.rebase && (m.cut || len(m.has.records) == api.LogLen):
 		return api.ErrFull
 	}
 	return api.OK
 }
 
-// crashed opens d behind a Crash, fails if there is something that the promise
-// does not allow, and takes what is there.
-func (m *model) crashed(t *testing.T, d *disk.Disk, what string) *Journal {
+// opened opens d, fails if there is something that the promise does not allow, and
+// takes what is there. Behind an Open without a Crash it may be that this is not
+// sure, if the disk fails: then it may still be as it was, till something is
+// written. The error is the disk's; else nothing is taken.
+func (m *model) opened(t *testing.T, d *disk.Disk, what string) (*Journal, api.Errno) {
 	t.Helper()
 	j, base, list, e := Open(d)
+	if e == api.ErrIO || e == api.ErrDown {
+		return nil, e
+	}
 	if e != api.OK || j.Len() != len(list) {
 		t.Fatalf("%s: Open: %d, Len %d of %d", what, e, j.Len(), len(list))
 	}
@@ -772,10 +777,25 @@ func (m *model) crashed(t *testing.T, d *disk.Disk, what string) *Journal {
 	for _, b := range list {
 		found = found.with(b)
 	}
-	if !m.sure.same(found) && !slices.ContainsFunc(m.maybe, found.same) {
-		t.Fatalf("%s: %q, want %q, or one of %q", what, found, m.sure, m.maybe)
+	if !m.has.same(found) && !slices.ContainsFunc(m.maybe, found.same) {
+		t.Fatalf("%s: %q, want %q, or one of %q", what, found, m.has, m.maybe)
 	}
-	*m = model{sure: found}
+	if len(d.Loose()) == 0 {
+		m.maybe = nil
+	} else {
+		m.maybe = append(m.maybe, m.has)
+	}
+	m.has, m.cut = found, false
+	return j, api.OK
+}
+
+// crashed opens d behind a Crash.
+func (m *model) crashed(t *testing.T, d *disk.Disk, what string) *Journal {
+	t.Helper()
+	j, e := m.opened(t, d, what)
+	if e != api.OK {
+		t.Fatalf("%s: Open: %d", what, e)
+	}
 	return j
 }
 
@@ -811,16 +831,22 @@ func keeps(loose int) []uint64 {
 // stand in a sector, and into them.
 func tears() []int { return []int{0, 4, 7, 9, 12, 60, 63, 64} }
 
+// modelOf is what is known of what based makes, of that base.
+func modelOf(records int) model {
+	m := model{has: state{base: "base"}}
+	for _, b := range listed(records) {
+		m.has = m.has.with(b)
+	}
+	return m
+}
+
 // scene is a journal on which the calls are done that come ahead of the trouble
 // which begins behind so many works, and those behind it as the trouble lets
 // them; also whether that began at all.
 func scene(t *testing.T, calls []call, records, works, failed int) (*disk.Disk, *Journal, model, bool) {
 	t.Helper()
 	d, j := based(t, []byte("base"), records)
-	m := model{sure: state{base: "base"}}
-	for _, b := range listed(records) {
-		m.sure = m.sure.with(b)
-	}
+	m := modelOf(records)
 	if failed > 0 {
 		d.Fail(works, failed)
 	} else {
@@ -834,8 +860,8 @@ func scene(t *testing.T, calls []call, records, works, failed int) (*disk.Disk, 
 			t.Fatalf("%v behind %d works: %d, want %d", c, works, e, want)
 		}
 		m.answered(c, e)
-		if j.Len() != len(m.sure.records) {
-			t.Fatalf("%v behind %d works: Len %d, want %d", c, works, j.Len(), len(m.sure.records))
+		if j.Len() != len(m.has.records) {
+			t.Fatalf("%v behind %d works: Len %d, want %d", c, works, j.Len(), len(m.has.records))
 		}
 		if e == api.ErrDown {
 			return d, j, m, true
@@ -941,7 +967,7 @@ func TestCutOffTwice(t *testing.T) {
 				for two := range worksOf(second) {
 					for _, keep := range keeps(4) {
 						d, j := cutOff(t, first, 2, one, 1)
-						m := model{sure: state{base: "base", records: []string{string(record(0)), string(record(1))}}}
+						m := modelOf(2)
 						m.answered(call{rebase: true, b: first}, api.ErrIO)
 						d.Fuse(two)
 						rebases(t, j, second, api.ErrDown, 2, "cut off twice")
@@ -951,6 +977,215 @@ func TestCutOffTwice(t *testing.T) {
 					}
 				}
 			}
+		}
+	}
+}
+
+// failing are calls of each kind.
+func failing() []call {
+	return []call{{b: marks(9, 5)}, {b: nil}, {rebase: true}, {rebase: true, b: marks(64, 6)}, {rebase: true, b: marks(130, 7)}}
+}
+
+// left is a journal of which one call failed behind so many works, and what is
+// known of it; also whether that call had so many.
+func left(t *testing.T, c call, records, works int) (*disk.Disk, model, bool) {
+	t.Helper()
+	d, j := based(t, []byte("base"), records)
+	m := modelOf(records)
+	d.Fail(works, 1)
+	e := c.on(j)
+	d.Fail(0, 0)
+	m.answered(c, e)
+	return d, m, e == api.ErrIO
+}
+
+// eachLeft goes through each work of each call at which that may fail.
+func eachLeft(t *testing.T, see func(d *disk.Disk, m model, again func() (*disk.Disk, model))) {
+	t.Helper()
+	for _, c := range failing() {
+		for _, records := range []int{0, 1, 63} {
+			for works := 0; ; works++ {
+				d, m, failed := left(t, c, records, works)
+				if !failed {
+					break
+				}
+				see(d, m, func() (*disk.Disk, model) {
+					d, m, _ := left(t, c, records, works)
+					return d, m
+				})
+			}
+		}
+	}
+}
+
+// unsettled is d's journal, opened without a Crash, on a disk that does each of the
+// Open's Reads and nothing more: what was loose is so still.
+func unsettled(t *testing.T, d *disk.Disk, m *model) *Journal {
+	t.Helper()
+	loose := d.Loose()
+	for works := range api.DiskSectors {
+		d.Fail(works, math.MaxInt)
+		j, e := m.opened(t, d, "a disk that fails")
+		d.Fail(0, 0)
+		if e == api.OK {
+			isLoose(t, d, "a disk that fails", loose...)
+			return j
+		}
+	}
+	t.Fatal("Open never ends")
+	return nil
+}
+
+// P6.2: what an Open finds without a Crash is sure behind it, whatever a Crash
+// keeps; nothing is loose.
+func TestOpenMakesSure(t *testing.T) {
+	eachLeft(t, func(_ *disk.Disk, _ model, again func() (*disk.Disk, model)) {
+		for _, keep := range []uint64{0, 1, 2, all} {
+			d, m := again()
+			m.crashed(t, d, "without a Crash")
+			isLoose(t, d, "Open")
+			d.Crash(keep, 30)
+			goesOn(t, d, m, "Open, Crash")
+		}
+	})
+}
+
+// P6.1: an Open whose Reads are done is OK, and finds what it would, also if the
+// disk does nothing behind them.
+func TestOpenOnAFailingDisk(t *testing.T) {
+	eachLeft(t, func(d *disk.Disk, m model, again func() (*disk.Disk, model)) {
+		o, n := again()
+		m.crashed(t, d, "without trouble")
+		if unsettled(t, o, &n); !m.has.same(n.has) {
+			t.Fatalf("%q, want %q", n.has, m.has)
+		}
+	})
+}
+
+// P6.2: a call fails, there is an Open without a Crash, whose findings are sure or
+// not, a second call fails, or the power goes in it, at each of the works, and then
+// there is a Crash, whatever it keeps.
+func TestOpenBetweenFailures(t *testing.T) {
+	eachLeft(t, func(_ *disk.Disk, _ model, again func() (*disk.Disk, model)) {
+		for i, c := range slices.Repeat(failing(), 4) {
+			settled, power := i%2 == 0, i/10 == 0
+			try := func(works int) (*disk.Disk, model, api.Errno) {
+				d, m := again()
+				j := (*Journal)(nil)
+				if settled {
+					j = m.crashed(t, d, "without a Crash")
+				} else {
+					j = unsettled(t, d, &m)
+				}
+				if power {
+					d.Fuse(works)
+				} else {
+					d.Fail(works, 1)
+				}
+				want := m.refused(c)
+				e := c.on(j)
+				if want != api.OK && e != want {
+					t.Fatalf("%v: %d, want %d", c, e, want)
+				}
+				m.answered(c, e)
+				return d, m, e
+			}
+			for works := 0; ; works++ {
+				d, _, e := try(works)
+				for keep := range uint64(1) << min(len(d.Loose()), 3) {
+					d, m, _ := try(works)
+					d.Crash(keep, size)
+					m.crashed(t, d, "behind two that failed")
+				}
+				if e != api.ErrIO && e != api.ErrDown {
+					break
+				}
+			}
+		}
+	})
+}
+
+// P6.2: what the Open found without a Crash, and could not make sure, is so behind
+// the next call that is OK.
+func TestSureBehindTheNextCall(t *testing.T) {
+	eachLeft(t, func(_ *disk.Disk, _ model, again func() (*disk.Disk, model)) {
+		for _, c := range failing() {
+			d, m := again()
+			j := unsettled(t, d, &m)
+			want := m.refused(c)
+			if e := c.on(j); e != want {
+				t.Fatalf("%v: %d, want %d", c, e, want)
+			}
+			m.answered(c, want)
+			if want == api.OK {
+				isLoose(t, d, "the next call")
+			}
+			d.Crash(0, 0)
+			goesOn(t, d, m, "the next call")
+		}
+	})
+}
+
+// P6.1: where the Open could not make sure what it found: ErrArg and ErrFull come
+// ahead of all work, as ever; else a call answers the disk's error ahead of what it
+// writes, and a Rebase that did is cut off.
+func TestUnsettledCalls(t *testing.T) {
+	d, m, _ := left(t, call{rebase: true, b: []byte("new")}, 3, worksOf([]byte("new"))-1)
+	j := unsettled(t, d, &m)
+	head := d.Loose()
+	refused := func() {
+		appends(t, j, marks(51, 1), api.ErrArg, 0, "unsure")
+		rebases(t, j, marks(mostBase+1, 1), api.ErrArg, 0, "unsure")
+	}
+	noWork(t, d, "unsure, ErrArg", refused)
+	for range 3 {
+		d.Fail(0, 1)
+		appends(t, j, []byte("one"), api.ErrIO, 0, "unsure")
+		isLoose(t, d, "nothing is written", head...)
+	}
+	d.Fail(0, 1)
+	rebases(t, j, []byte("newer"), api.ErrIO, 0, "unsure")
+	isLoose(t, d, "nothing is written", head...)
+	noWork(t, d, "unsure, cut off", func() {
+		appends(t, j, []byte("one"), api.ErrFull, 0, "unsure, cut off")
+		refused()
+	})
+	rebases(t, j, []byte("newer"), api.OK, 0, "done")
+	has(t, d, 4, []byte("newer"), "done")
+	appends(t, j, []byte("one"), api.OK, 1, "done")
+	d.Fail(2, 1)
+	appends(t, j, []byte("two"), api.OK, 2, "two works, as ever")
+	d.Crash(0, 0)
+	opens(t, d, []byte("newer"), [][]byte{[]byte("one"), []byte("two")}, "done")
+}
+
+// P6.1: a full journal whose last record is not sure: ErrFull, and no work.
+func TestUnsettledFull(t *testing.T) {
+	d, m, _ := left(t, call{b: []byte("last")}, api.LogLen-1, 1)
+	j := unsettled(t, d, &m)
+	noWork(t, d, "unsure, full", func() {
+		appends(t, j, []byte("one"), api.ErrFull, api.LogLen, "unsure, full")
+	})
+	isLoose(t, d, "unsure, full", api.LogLen-1)
+}
+
+// P6.1: Open flushes if one of the log's sectors or the slots' is loose, and only
+// then: of others none is sure then, and no work is done for them.
+func TestOpenLeavesOthers(t *testing.T) {
+	for n := range api.DiskSectors {
+		d, _ := based(t, []byte("base"), 1)
+		written(t, d, n, image(t, d)[n*size:][:size])
+		written(t, d, api.FileAt, marks(size, 2))
+		d.Fail(readsOf([]byte("first"), []byte("base"), 1), 1)
+		opens(t, d, []byte("base"), listed(1), "loose")
+		_, e := d.Read(0)
+		if own := n < api.FileAt; own != (e == api.OK) {
+			t.Errorf("sector %d is loose: the work behind the Reads: %d", n, e)
+		}
+		if opens(t, d, []byte("base"), listed(1), "loose"); n < api.FileAt {
+			isLoose(t, d, "the journal's")
+		} else {
+			isLoose(t, d, "another one's", slices.Compact([]int{api.FileAt, n})...)
 		}
 	}
 }
@@ -979,8 +1214,12 @@ func TestManyCalls(t *testing.T) {
 				if want != api.OK && e != want || want == api.OK && (e == api.ErrArg || e == api.ErrFull) {
 					t.Fatalf("%s: %v: %d, want %d", what, c, e, want)
 				}
-				if m.answered(c, e); j.Len() != len(m.sure.records) {
-					t.Fatalf("%s: %v: Len %d, want %d", what, c, j.Len(), len(m.sure.records))
+				if m.answered(c, e); j.Len() != len(m.has.records) {
+					t.Fatalf("%s: %v: Len %d, want %d", what, c, j.Len(), len(m.has.records))
+				}
+			case kind < 48:
+				if other, e := m.opened(t, d, what); e == api.OK {
+					j = other
 				}
 			case kind < 54:
 				d.Fail(next(9), next(4))

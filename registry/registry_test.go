@@ -269,8 +269,8 @@ func TestOpenOfNothing(t *testing.T) {
 	}
 }
 
-// P7.1: Open flushes nothing: what was loose is so still.
-func TestOpenFlushesNothing(t *testing.T) {
+// P7.1: Open flushes nothing, if what it reads is sure: what was loose is so still.
+func TestOpenLeavesOthers(t *testing.T) {
 	d, _, k := started(t, 70)
 	written(t, d, api.SwapAt, marks(size, 1))
 	opens(t, d, k, "loose")
@@ -908,8 +908,8 @@ func TestTwoRegistries(t *testing.T) {
 
 // model is what is known of a registry by what its calls answered.
 type model struct {
-	sure  known
-	maybe []known // with one of those calls that answered an error since
+	has   known   // what it tells
+	maybe []known // what there may be in its place behind a Crash
 }
 
 // refused is the error that is due whatever the disk does; else OK.
@@ -922,7 +922,7 @@ func refused(c call) api.Errno {
 
 // idle tells whether the call has nothing to write.
 func (m *model) idle(c call) bool {
-	return !c.mayBe() || c.done(m.sure).same(m.sure)
+	return !c.mayBe() || c.done(m.has).same(m.has)
 }
 
 // does does the call, fails if it answers what it may not, and takes the answer.
@@ -935,34 +935,49 @@ func (m *model) does(t *testing.T, r *Registry, c call, what string) api.Errno {
 			t.Fatalf("%s: %s: %d, want %d", what, c.name(), e, refused(c))
 		}
 	case e == api.OK:
-		*m = model{sure: c.done(m.sure)}
+		*m = model{has: c.done(m.has)}
 	case e == api.ErrIO || e == api.ErrDown:
-		m.maybe = append(m.maybe, c.done(m.sure))
+		m.maybe = append(m.maybe, c.done(m.has))
 	default:
 		t.Fatalf("%s: %s: %d", what, c.name(), e)
 	}
-	knows(t, r, m.sure, what)
+	knows(t, r, m.has, what)
 	return e
 }
 
-// crashed opens d behind a Crash, fails if there is something that the promise
-// does not allow, and takes what is there.
-func (m *model) crashed(t *testing.T, d *disk.Disk, what string) *Registry {
+// opened opens d, fails if there is something that the promise does not allow, and
+// takes what is there. Behind an Open without a Crash it may be that this is not
+// sure, if the disk fails: then it may still be as it was, till something is
+// written. The error is the disk's; else nothing is taken.
+func (m *model) opened(t *testing.T, d *disk.Disk, what string) (*Registry, api.Errno) {
 	t.Helper()
 	r, e := Open(d)
+	if e == api.ErrIO || e == api.ErrDown {
+		return nil, e
+	}
 	if e != api.OK {
 		t.Fatalf("%s: Open: %d", what, e)
 	}
 	found := told(r)
-	if !m.sure.same(found) && !slices.ContainsFunc(m.maybe, found.same) {
-		t.Fatalf("%s: %v, want %v, or one of %v", what, found, m.sure, m.maybe)
+	if !m.has.same(found) && !slices.ContainsFunc(m.maybe, found.same) {
+		t.Fatalf("%s: %v, want %v, or one of %v", what, found, m.has, m.maybe)
 	}
-	for _, f := range m.sure.bad {
-		if !slices.Contains(found.bad, f) {
-			t.Fatalf("%s: frame %d is good again", what, f)
-		}
+	if len(d.Loose()) == 0 {
+		m.maybe = nil
+	} else {
+		m.maybe = append(m.maybe, m.has)
 	}
-	*m = model{sure: found}
+	m.has = found
+	return r, api.OK
+}
+
+// crashed opens d behind a Crash.
+func (m *model) crashed(t *testing.T, d *disk.Disk, what string) *Registry {
+	t.Helper()
+	r, e := m.opened(t, d, what)
+	if e != api.OK {
+		t.Fatalf("%s: Open: %d", what, e)
+	}
 	return r
 }
 
@@ -1001,7 +1016,7 @@ func tears() []int { return []int{0, 4, 9, 30, 60, 64} }
 func scene(t *testing.T, calls []call, changes, works, failed int) (*disk.Disk, model, bool) {
 	t.Helper()
 	d, r, k := started(t, changes)
-	m := model{sure: k}
+	m := model{has: k}
 	if failed > 0 {
 		d.Fail(works, failed)
 	} else {
@@ -1106,13 +1121,108 @@ func TestCutOffTwice(t *testing.T) {
 			for keep := range uint64(16) {
 				for _, torn := range []int{5, size} {
 					d, r, k := started(t, api.LogLen)
-					m := model{sure: k}
+					m := model{has: k}
 					d.Fail(one, 1)
 					m.does(t, r, bad(1000, 1001), "cut off")
 					d.Fuse(two)
 					m.does(t, r, state(31, 1), "cut off twice")
 					d.Crash(keep, torn)
 					goesOn(t, d, m, "cut off twice")
+				}
+			}
+		}
+	}
+}
+
+// left is a registry behind so many changes, of which one call failed behind so
+// many works, and what is known of it; also whether that call had so many.
+func left(t *testing.T, c call, changes, works int) (*disk.Disk, model, bool) {
+	t.Helper()
+	d, r, k := started(t, changes)
+	m := model{has: k}
+	d.Fail(works, 1)
+	e := m.does(t, r, c, "left")
+	d.Fail(0, 0)
+	return d, m, e == api.ErrIO
+}
+
+// unsettled is what lasted on d, opened without a Crash, on a disk that does each
+// of the Open's Reads and nothing more: what was loose is so still.
+func unsettled(t *testing.T, d *disk.Disk, m *model) *Registry {
+	t.Helper()
+	loose := d.Loose()
+	for works := range api.DiskSectors {
+		d.Fail(works, math.MaxInt)
+		r, e := m.opened(t, d, "a disk that fails")
+		d.Fail(0, 0)
+		if e == api.OK {
+			isLoose(t, d, "a disk that fails", loose...)
+			return r
+		}
+	}
+	t.Fatal("Open never ends")
+	return nil
+}
+
+// P7.2: a call fails at each of the works, with and without a rebase, and there is
+// an Open without a Crash: what that tells is sure, whatever a Crash keeps.
+func TestOpenMakesSure(t *testing.T) {
+	for _, changes := range counts() {
+		for _, c := range changed() {
+			for works := 0; ; works++ {
+				_, _, failed := left(t, c, changes, works)
+				if !failed {
+					break
+				}
+				for _, keep := range []uint64{0, 1, 2, all} {
+					d, m, _ := left(t, c, changes, works)
+					m.crashed(t, d, "without a Crash")
+					isLoose(t, d, "Open")
+					d.Crash(keep, 30)
+					goesOn(t, d, m, "Open, Crash")
+				}
+			}
+		}
+	}
+}
+
+// P7.2: a call fails, there is an Open without a Crash, whose findings are sure or
+// not, a second call fails, or the power goes in it, at each of the works, and then
+// there is a Crash, whatever it keeps.
+func TestOpenBetweenFailures(t *testing.T) {
+	for _, changes := range []int{0, 62, 63, 64, 65} {
+		for one := 0; ; one++ {
+			_, _, failed := left(t, bad(1000, 1001), changes, one)
+			if !failed {
+				break
+			}
+			for i, c := range slices.Repeat([]call{bad(1002), state(31, 1)}, 4) {
+				settled, power := i/2%2 == 0, i/4 == 0
+				try := func(two int) (*disk.Disk, model, api.Errno) {
+					d, m, _ := left(t, bad(1000, 1001), changes, one)
+					r := (*Registry)(nil)
+					if settled {
+						r = m.crashed(t, d, "without a Crash")
+					} else {
+						r = unsettled(t, d, &m)
+					}
+					if power {
+						d.Fuse(two)
+					} else {
+						d.Fail(two, 1)
+					}
+					return d, m, m.does(t, r, c, "behind an Open")
+				}
+				for two := 0; ; two++ {
+					d, _, e := try(two)
+					for keep := range uint64(1) << min(len(d.Loose()), 3) {
+						d, m, _ := try(two)
+						d.Crash(keep, size)
+						goesOn(t, d, m, "behind two that failed")
+					}
+					if e == api.OK {
+						break
+					}
 				}
 			}
 		}
@@ -1155,6 +1265,10 @@ func TestManyCalls(t *testing.T) {
 			switch kind := next(60); {
 			case kind < 45:
 				m.does(t, r, someCall(next), what)
+			case kind < 48:
+				if other, e := m.opened(t, d, what); e == api.OK {
+					r = other
+				}
 			case kind < 54:
 				d.Fail(next(9), next(4))
 			case kind < 56:
